@@ -1,0 +1,1 @@
+"""Mirrordoors: mirrors seen in mirrors, and the doors of an endless house."""
