@@ -1,6 +1,6 @@
 """Doors seen in doors, RECIPEs, and what comes of turning the house over."""
 
-from mirrordoors.rows import back, is_way, is_word, joined, rooms_of, turned
+from mirrordoors.rows import back, beyond, is_way, is_word, joined, rooms_of, turned
 
 
 def seen_in(one, other):
@@ -79,21 +79,22 @@ def same_motion(one, other):
 
 def fewest_turns(row):
     """The least number of doors to turn over at that lead "" to this room."""
-    return len(left_out(row))
+    pairs = most_pairs(row)
+    return len(row) - 2 * in_lane(pairs[0], len(row), lane_bits(row))
 
 
 def turns_for(row):
     """A tuple of as few WAYs as can be that lead "" to this room."""
-    places = left_out(row)
+    places = set(left_out(row))
     ways = []
     room = ""
     for place, letter in enumerate(row):
-        beyond = joined(room, letter)
+        there = beyond(room, letter)
         if place in places:
             # Turning over at this door does what going through it would have done.
-            ways.append(farther(room, beyond))
+            ways.append(farther(room, there))
         else:
-            room = beyond
+            room = there
     # The door of the last letter that is left out is the one to turn over at first.
     return tuple(ways[::-1])
 
@@ -108,46 +109,83 @@ def is_turns_for(row, thing):
 def left_out(row):
     """The places of as few letters as can be, without which the ROW comes to nothing."""
     pairs = most_pairs(row)
+    bits = lane_bits(row)
     places = []
     spans = [(0, len(row))]
     while spans:
         start, end = spans.pop()
-        if start == end:
-            continue
-        if pairs[start][end] == pairs[start + 1][end]:
+        if end - start == 1:
             places.append(start)
-            spans.append((start + 1, end))
-        else:
+        elif start < end and row[start] == row[end - 1]:
+            # Whatever doors lead "" to the room between, these doors, seen in the letter at the
+            # ends, lead it to the room with the ends: so both need as many.
+            spans.append((start + 1, end - 1))
+        elif start < end:
             mate = first_mate(row, pairs, start, end)
-            spans.append((start + 1, mate))
-            spans.append((mate + 1, end))
+            if mate is None:
+                places.append(start)
+                spans.append((start + 1, end))
+            else:
+                spans.append((start + 1, mate))
+                spans.append((mate + 1, end))
     return places
 
 
 def most_pairs(row):
-    """For each start and end: how many pairs of letters of row[start:end] can be made at most."""
+    """For each start a number: its lane end tells how many pairs row[start:end] has at most."""
     # Letters come to nothing just if they can be paired, like with like, no two pairs crossing.
-    size = len(row)
-    pairs = [[0] * (size + 1) for _ in range(size + 1)]
-    for start in range(size - 1, -1, -1):
-        for end in range(start + 1, size + 1):
-            made = [pairs_with(pairs, start, mate, end) for mate in mates(row, start, end)]
-            pairs[start][end] = max([pairs[start + 1][end]] + made)
-    return pairs
+    # The counts for all ends stand side by side in the lanes of one number, so that each sum
+    # works on all of them at once.
+    bits = lane_bits(row)
+    ones = every_lane(bits, len(row) + 1)
+    top = bits - 1
+    full = ones * ((1 << top) - 1)
+    known = {letter: [] for letter in row}
+    pairs = [0]
+    for start in range(len(row) - 1, -1, -1):
+        counts = pairs[-1]
+        free = full - counts
+        reached = 0
+        for mate, more, later in known[row[start]]:
+            # The top bit of a lane comes up just if start, paired with the letter at this place,
+            # takes nothing away from the pairs of the letters behind start, and so adds one.
+            reached |= free + more + in_lane(counts, mate, bits) * later
+        behind = (ones >> bits * (start + 1)) << bits * (start + 1)
+        known[row[start]].append((start, counts + behind, behind))
+        pairs.append(counts + ((reached >> top) & ones))
+    return pairs[::-1]
 
 
-def mates(row, start, end):
-    """The places behind start, ahead of end, that have the letter of start."""
-    return [place for place in range(start + 1, end) if row[place] == row[start]]
+def lane_bits(row):
+    """How many bits a lane needs: for a count of pairs, and one bit at its top."""
+    return len(row).bit_length() + 1
 
 
-def pairs_with(pairs, start, mate, end):
-    """How many pairs can be made at most if those at start and at mate are one."""
-    return 1 + pairs[start + 1][mate] + pairs[mate + 1][end]
+def every_lane(bits, lanes):
+    """The number with 1 in each of so many lanes."""
+    ones = 0
+    for _ in range(lanes):
+        ones = (ones << bits) | 1
+    return ones
+
+
+def in_lane(counts, place, bits):
+    """The count in this lane."""
+    return (counts >> bits * place) & ((1 << bits) - 1)
 
 
 def first_mate(row, pairs, start, end):
-    """The first place with which start can be paired so that the most pairs are made."""
-    most = pairs[start][end]
-    fit = [mate for mate in mates(row, start, end) if pairs_with(pairs, start, mate, end) == most]
-    return fit[0]
+    """The first place with which start can be paired so that the most pairs are made, or None."""
+    bits = lane_bits(row)
+    most = in_lane(pairs[start], end, bits)
+    if most == in_lane(pairs[start + 1], end, bits):
+        return None
+    mate = row.find(row[start], start + 1)
+    while pairs_with(pairs, bits, start, mate, end) < most:
+        mate = row.find(row[start], mate + 1)
+    return mate
+
+
+def pairs_with(pairs, bits, start, mate, end):
+    """How many pairs can be made at most if those at start and at mate are one."""
+    return 1 + in_lane(pairs[start + 1], mate, bits) + in_lane(pairs[mate + 1], end, bits)

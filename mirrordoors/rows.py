@@ -3,16 +3,18 @@
 from mirrordoors.errors import NoMirror
 
 LETTERS = "abcdefgh"
+NEIGHBOURS = ("aa", "bb", "cc", "dd", "ee", "ff", "gg", "hh")
 
 
 def is_word(thing):
     """Whether thing is a WORD, of however many letters."""
-    return isinstance(thing, str) and all([letter in LETTERS for letter in thing])
+    # If anything is no letter, the outermost such thing stays.
+    return isinstance(thing, str) and thing.strip(LETTERS) == ""
 
 
 def is_row(thing):
     """Whether thing is a ROW, of however many letters."""
-    return is_word(thing) and all([here != behind for here, behind in zip(thing, thing[1:])])
+    return is_word(thing) and not any([two in thing for two in NEIGHBOURS])
 
 
 def is_way(thing):
@@ -33,12 +35,15 @@ def reduced(word):
 
 def common(one, other):
     """How many letters the common beginning of two ROWs has."""
-    many = 0
-    for here, there in zip(one, other):
-        if here != there:
-            return many
-        many += 1
-    return many
+    # Halving takes a few comparisons of whole pieces where going letter by letter takes many.
+    low, high = 0, min(len(one), len(other))
+    while low < high:
+        middle = (low + high + 1) // 2
+        if one[low:middle] == other[low:middle]:
+            low = middle
+        else:
+            high = middle - 1
+    return low
 
 
 def joined(one, other):
@@ -51,6 +56,11 @@ def joined(one, other):
 def back(row):
     """The ROW from behind."""
     return row[::-1]
+
+
+def beyond(room, letter):
+    """The room beyond the door of this letter in this room."""
+    return room[:-1] if room.endswith(letter) else room + letter
 
 
 def path(one, other):
@@ -84,7 +94,7 @@ def meeting(one, other, third):
 
 def next_rooms(room, many):
     """The tuple of the rooms behind the doors of this room, by their letters."""
-    return tuple([joined(room, letter) for letter in LETTERS[:many]])
+    return tuple([beyond(room, letter) for letter in LETTERS[:many]])
 
 
 def begins(one, other):
