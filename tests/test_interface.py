@@ -29,6 +29,38 @@ INTERFACE = {
         "same_motion": ["one", "other"], "fewest_turns": ["row"], "turns_for": ["row"],
         "is_turns_for": ["row", "thing"],
     },
+    "halls": {
+        "is_sheet": ["points", "thing"], "is_hall": ["thing"], "hall_letters": ["hall"],
+        "point_after": ["hall", "word", "point"], "row_to": ["hall", "point", "to"],
+        "seen_sheet": ["one", "other"], "sheet_of": ["hall", "way"],
+        "sheet_shown": ["hall", "recipe"], "alike_in": ["hall", "one", "other"],
+        "parting_hall": ["one", "other"], "is_parting_hall": ["one", "other", "thing"],
+        "all_sheets": ["hall"], "how_many_show": ["hall", "sheet", "length"],
+        "shortest_way": ["hall", "sheet"],
+    },
+    "makers": {
+        "makers": ["ways"], "are_makers": ["thing"], "is_of": ["ways", "way"],
+        "folded": ["ways", "way"], "chain_to": ["ways", "way"], "within": ["one", "other"],
+        "same_family": ["one", "other"], "together": ["one", "other"], "needless": ["ways"],
+        "are_free": ["ways"], "doors_of": ["ways", "longest"], "how_many_of": ["ways", "length"],
+    },
+    "rooms": {
+        "is_left": ["ways", "room"], "room_folded": ["ways", "room"],
+        "same_rest": ["ways", "one", "other"], "turns_to": ["ways", "one", "other"],
+        "doors_between": ["ways", "one", "other"], "steps_out": ["ways", "room"],
+        "share": ["way", "many"], "shares": ["ways", "many"], "is_whole": ["ways", "many"],
+        "rooms_left": ["ways", "many"], "how_many_rooms": ["ways", "many"],
+        "how_many_left": ["ways", "many", "length"],
+        "left_at": ["ways", "many", "length", "number"],
+    },
+    "counts": {
+        "how_many_ways": ["many", "length"], "way_at": ["many", "length", "number"],
+        "number_of_way": ["many", "way"], "how_many_whole": ["many", "rooms"],
+        "whole_at": ["many", "rooms", "number"], "number_of_whole": ["many", "ways"],
+        "how_many_sets": ["many", "longest"], "set_at": ["many", "longest", "number"],
+        "number_of_set": ["many", "longest", "ways"], "how_many_with": ["many", "sizes"],
+        "set_with": ["many", "sizes"],
+    },
 }
 
 

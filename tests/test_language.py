@@ -88,6 +88,49 @@ class LanguageTest(unittest.TestCase):
                 origin = PACKAGE / (node.module.partition(".")[2] + ".py")
                 self.assertTrue(set(words) <= set(bound_names(ast.parse(origin.read_text()))))
 
+    def test_imports_go_one_way(self):
+        ahead = {}
+        for path in files():
+            imported = [node.module for node in ast.walk(ast.parse(path.read_text()))
+                        if isinstance(node, ast.ImportFrom)]
+            ahead[path.stem] = {module.partition(".")[2] for module in imported} - {""}
+        while ahead:
+            first = [name for name in ahead if not ahead[name] & set(ahead)]
+            self.assertTrue(first, ahead)
+            for name in first:
+                del ahead[name]
+
+    def test_library(self):
+        for name, tree in trees():
+            taken = {word.name for node in ast.walk(tree) if isinstance(node, ast.ImportFrom)
+                     if node.module in LIBRARY for word in node.names}
+            calls = [node for node in ast.walk(tree) if isinstance(node, ast.Call)
+                     if isinstance(node.func, ast.Name) and node.func.id in taken]
+            self.assertFalse([node.lineno for node in calls if node.keywords], name)
+            used = [node for node in ast.walk(tree) if isinstance(node, ast.Name) and node.id in taken]
+            self.assertEqual(len(used), len(calls), name)
+
+    def test_exponents(self):
+        for name, node in nodes(ast.BinOp):
+            if isinstance(node.op, ast.Pow):
+                self.assertIsInstance(node.right, ast.Constant, (name, node.lineno))
+
+    def test_sets(self):
+        """A set is sorted, counted, compared, or kept by a name; it is not iterated."""
+        for name, tree in trees():
+            right = []
+            for node in ast.walk(tree):
+                if isinstance(node, ast.Call) and isinstance(node.func, ast.Name):
+                    right += node.args if node.func.id in ("sorted", "len") else []
+                elif isinstance(node, ast.Compare):
+                    right += [node.left] + node.comparators
+                elif isinstance(node, ast.Assign):
+                    right.append(node.value)
+            for node in ast.walk(tree):
+                called = isinstance(node, ast.Call) and isinstance(node.func, ast.Name)
+                if isinstance(node, (ast.Set, ast.SetComp)) or called and node.func.id == "set":
+                    self.assertIn(node, right, (name, node.lineno))
+
     def test_statements_and_values(self):
         kinds = (ast.Global, ast.AsyncFunctionDef, ast.AsyncFor, ast.AsyncWith, ast.Await, ast.Div,
                  ast.AnnAssign)

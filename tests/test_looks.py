@@ -7,6 +7,7 @@ from mirrordoors.looks import (
     same_motion, seen_along, seen_in, turns_for, way_shown)
 from mirrordoors.rows import is_way, joined, palindrome, turned
 from tests import house
+from tests.calls import check_calls
 
 LONG = [house.made_row(seed, 200, many) for seed in range(3) for many in (2, 3, 8)]
 TWELVE = tuple(house.made_row(seed, 200, 3) for seed in range(12))
@@ -104,12 +105,7 @@ class CallsTest(unittest.TestCase):
             (turns_for, {"row": "aba"}, ("ab",)),
             (is_turns_for, {"row": "abab", "thing": ("b", "ab")}, True),
         ]
-        for function, values, answer in calls:
-            for _ in range(2):
-                self.assertEqual(function(**values), answer, function.__name__)
-                self.assertEqual(function(*values.values()), answer, function.__name__)
-            turned_round = dict(reversed(values.items()))
-            self.assertEqual(function(**turned_round), answer, function.__name__)
+        check_calls(self, calls)
         self.assertEqual(recipe_of(way="abc"), recipe_of("abc"))
         self.assertEqual(recipe_of("a"), "a")
 

@@ -5,6 +5,7 @@ from mirrordoors.rows import (
     back, begins, distance, doors_on, is_palindrome, is_row, is_way, is_word, joined, meeting,
     next_rooms, palindrome, path, reduced, rooms_of, turned, way_of)
 from tests import house
+from tests.calls import check_calls
 
 LONG = [house.made_row(seed, 200, many) for seed in range(4) for many in (2, 3, 5, 8)]
 SOME = house.rows(3, 3) + ["h", "hg", "abcdefgh"]
@@ -67,12 +68,7 @@ class CallsTest(unittest.TestCase):
             (palindrome, {"way": "ab"}, "aba"), (is_palindrome, {"thing": "aba"}, True),
             (way_of, {"row": "aba"}, "ab"), (turned, {"way": "ab", "room": "c"}, "abac"),
         ]
-        for function, values, answer in calls:
-            for _ in range(2):
-                self.assertEqual(function(**values), answer, function.__name__)
-                self.assertEqual(function(*values.values()), answer, function.__name__)
-            turned_round = dict(reversed(values.items()))
-            self.assertEqual(function(**turned_round), answer, function.__name__)
+        check_calls(self, calls)
 
     def test_kinds(self):
         for one in SOME:
