@@ -1,7 +1,6 @@
 """Halls: points that mirrors exchange, and mirrors that are seen in mirrors."""
 
-from mirrordoors.errors import NoLetter
-from mirrordoors.rows import LETTERS, joined, palindrome
+from mirrordoors.rows import is_letter, joined, need_letters, palindrome
 
 
 def is_sheet(points, thing):
@@ -42,9 +41,7 @@ def is_hall(thing):
 
 def is_mirror_sheet(points, thing):
     """Whether thing is a pair of a letter and a SHEET for so many points."""
-    if not is_pair(thing) or not isinstance(thing[0], str) or len(thing[0]) != 1:
-        return False
-    return thing[0] in LETTERS and is_sheet(points, thing[1])
+    return is_pair(thing) and is_letter(thing[0]) and is_sheet(points, thing[1])
 
 
 def hall_letters(hall):
@@ -60,9 +57,7 @@ def point_after(hall, word, point):
 def mirrors_along(hall, word):
     """The list of the mirrors of the letters of the WORD; raises NoLetter(letter)."""
     mirrors = mirrors_of(hall)
-    for letter in word:
-        if letter not in mirrors:
-            raise NoLetter(letter)
+    need_letters(mirrors, word)
     return [mirrors[letter] for letter in word]
 
 

@@ -1,6 +1,6 @@
 """Doors seen in doors, RECIPEs, and what comes of turning the house over."""
 
-from mirrordoors.rows import back, beyond, is_way, is_word, joined, rooms_of, turned
+from mirrordoors.rows import back, beyond, is_letter, is_way, joined, rooms_of, turned
 
 
 def seen_in(one, other):
@@ -25,7 +25,7 @@ def is_recipe(thing):
     """Whether thing is a RECIPE, of however many letters."""
     if isinstance(thing, tuple):
         return len(thing) == 2 and is_recipe(thing[0]) and is_recipe(thing[1])
-    return is_word(thing) and len(thing) == 1
+    return is_letter(thing)
 
 
 def way_shown(recipe):

@@ -149,8 +149,12 @@ def doors_at(stems, room):
 
 def how_many_of(ways, length):
     """How many doors of the family have WAYs of just so many letters."""
-    stems = stem_doors(makers(ways))
-    came = {("", ""): 1}
+    return how_many_led_back(stem_doors(makers(ways)), "", length)
+
+
+def how_many_led_back(stems, start, length):
+    """How many WAYs of just so many letters lead, from start, by their last letter nowhere else."""
+    came = {(start, ""): 1}
     for _ in range(length):
         came = gone_on(stems, came)
     return sum([many for (room, letter), many in came.items() if stems[room][letter] == room])

@@ -37,15 +37,18 @@ def same_rest(ways, one, other):
 def turns_to(ways, one, other):
     """The shortest tuple of makers that leads one to other; None if there is none."""
     made = makers(ways)
-    rest, folds = rest_and_folds(made, one)
-    other_rest, other_folds = rest_and_folds(made, other)
+    return makers_between(rest_and_folds(made, one), rest_and_folds(made, other))
+
+
+def makers_between(one, other):
+    """The shortest tuple of makers from one to other, by the pair (rest, folds) of each, or None.
+
+    It is what folds one, and then what folds other, from behind.
+    """
+    rest, folds = one
+    other_rest, other_folds = other
     if rest != other_rest:
         return None
-    return turns_between(folds, other_folds)
-
-
-def turns_between(folds, other_folds):
-    """The makers at which one room is folded, and those of another one from behind."""
     # To turn over at one door twice, side by side, is nothing.
     while folds and other_folds and folds[-1] == other_folds[-1]:
         folds = folds[:-1]

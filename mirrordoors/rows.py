@@ -1,6 +1,6 @@
 """The endless house: rooms told by their ROWs, doors told by their WAYs."""
 
-from mirrordoors.errors import NoMirror
+from mirrordoors.errors import NoLetter, NoMirror
 
 LETTERS = "abcdefgh"
 NEIGHBOURS = ("aa", "bb", "cc", "dd", "ee", "ff", "gg", "hh")
@@ -10,6 +10,18 @@ def is_word(thing):
     """Whether thing is a WORD, of however many letters."""
     # If anything is no letter, the outermost such thing stays.
     return isinstance(thing, str) and thing.strip(LETTERS) == ""
+
+
+def is_letter(thing):
+    """Whether thing is a letter."""
+    return is_word(thing) and len(thing) == 1
+
+
+def need_letters(letters, word):
+    """Raises NoLetter(letter) for the first letter of the WORD that is none of these."""
+    for letter in word:
+        if letter not in letters:
+            raise NoLetter(letter)
 
 
 def is_row(thing):

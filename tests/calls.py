@@ -30,3 +30,28 @@ def check_sets(test, calls, names):
         for form in (list, lambda ways: ways[::-1], lambda ways: ways * 3,
                      lambda ways: list(ways[::-1] + ways)):
             check_form(test, call, {**call[1], **{name: form(value) for name, value in sets.items()}})
+
+
+def listed(thing):
+    """The same with a list for each tuple."""
+    return [listed(part) for part in thing] if isinstance(thing, tuple) else thing
+
+
+def each_part_listed(thing):
+    """The same with a list for one tuple in it, each in turn."""
+    if isinstance(thing, tuple):
+        yield list(thing)
+        for k, part in enumerate(thing):
+            for other in each_part_listed(part):
+                yield thing[:k] + (other,) + thing[k + 1:]
+
+
+def check_lists(test, calls):
+    """That lists can stand in the place of tuples, all of them and each by itself."""
+    for call in calls:
+        values = {name: value for name, value in call[1].items() if name != "thing"}
+        forms = [{name: listed(value) for name, value in values.items()}]
+        for name, value in values.items():
+            forms += [{name: form} for form in each_part_listed(value)]
+        for form in forms:
+            check_form(test, call, {**call[1], **form})

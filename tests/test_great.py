@@ -1,11 +1,16 @@
-"""That each function of halls, makers, rooms and counts is fast at its greatest inputs."""
+"""That each function, from halls on, is fast at its greatest inputs."""
 
 import time
 import unittest
 
-from mirrordoors import counts, halls, makers, rooms
+from mirrordoors import between, counts, flat, great, halls, makers, rooms, small
 from tests import house, points
 from tests.test_counts import LONGEST, great_whole
+from tests.test_flat import EVERY
+from tests.test_flat import GREAT as FAR_PLACES
+from tests.test_great_rows import long_great
+from tests.test_small import GREAT as HOUSES
+from tests.test_small import line, mixed, ring
 
 LONG = [house.made_row(seed, 200, many) for seed in range(3) for many in (2, 3, 8)]
 HUNDRED = [house.made_row(seed, 100, 8) for seed in range(2)]
@@ -85,9 +90,65 @@ def calls_of_numbers():
         yield counts.number_of_set, (many, LONGEST[many], longest)
 
 
+def calls_of_doors():
+    for one in LONG:
+        for other in LONG[:3]:
+            for function in (between.mirror_between, between.doors_from, between.can_become,
+                             between.middle, between.pace, flat.alike_flat, flat.parting_places):
+                yield function, (one, other)
+            yield between.is_between, (one, other, one)
+            yield flat.alike_round, (one, other, 10 ** 40)
+            yield flat.is_parting_places, (one, other, FAR_PLACES)
+            for ways in TWELVE:
+                yield between.looks_within, (ways, one, other)
+                yield between.led_within, (ways, one, other)
+                yield between.is_looks_within, (ways, one, other, makers.makers(ways) * 20)
+        yield flat.sums_of, (one, 8)
+        yield flat.number_shown, (one, FAR_PLACES)
+        yield flat.flat_after, (EVERY, one, 10 ** 40)
+        yield flat.is_way_with, (flat.sums_of(one, 8), one)
+    for sums in ((40, -40) * 3 + (40, -39), (40, 40, 40, 40, -40, -40, -40, -39)):
+        for function in (flat.way_with, flat.fewest_letters, flat.how_many_fewest):
+            yield function, (sums,)
+
+
+def calls_of_houses():
+    for one in HOUSES:
+        for function in (small.is_small, small.in_order, small.least_mirror, small.is_family,
+                         small.unlike_starts):
+            yield function, (one,)
+        yield small.begun_at, (one, len(one) - 1)
+        yield small.room_in, (one, LONG[0])
+        yield small.is_mirror, (one, LONG[0])
+        yield small.how_many_mirrors, (one, 60)
+        yield small.laid_onto, (one, one)
+        yield small.alike_elsewhere, (one, small.begun_at(one, len(one) - 1))
+    yield small.makers_of, (line(40, 8),)
+    yield small.small_of, (("ab" * 100, "ba" * 100), 2)
+    yield small.both_small, (mixed(1, 12, 8), mixed(2, 12, 8))
+    yield small.both_small, (ring(10), ring(12))
+
+
+def calls_of_greats():
+    one, other = long_great(1), long_great(2)
+    for function in (great.is_great, great.canonical, great.great_length, great.great_back,
+                     great.great_palindrome):
+        yield function, (one,)
+    for function in (great.great_joined, great.great_common, great.great_begins, great.great_distance,
+                     great.great_seen_in):
+        yield function, (one, other)
+        yield function, (great.great_back(one), one)
+        yield function, (one, one)
+    yield great.great_letter, (one, great.great_length(one) - 1)
+    yield great.great_sums, (one, 8)
+    yield great.great_of, (LONG[2],)
+    yield great.spelled, (great.great_of(LONG[2]),)
+
+
 class GreatTest(unittest.TestCase):
     def test_each_within_a_few_seconds(self):
-        for calls in (greatest_calls(), calls_of_ways(), calls_of_numbers()):
+        for calls in (greatest_calls(), calls_of_ways(), calls_of_numbers(), calls_of_doors(),
+                      calls_of_houses(), calls_of_greats()):
             for function, values in calls:
                 start = time.perf_counter()
                 told = function(*values)

@@ -8,26 +8,12 @@ from mirrordoors.halls import (
 from mirrordoors.looks import way_shown
 from mirrordoors.rows import palindrome
 from tests import house, points
-from tests.calls import check_calls, check_form
+from tests.calls import check_calls, check_lists, each_part_listed, listed
 
 HALL = (4, (("a", ((0, 1), (2, 3))), ("b", ((1, 2),))))
 GREAT = [points.mixed(seed, 400, "abcdefgh") for seed in (1, 2)] + [points.ring(400)]
 LONG = [house.made_row(seed, 200, many) for seed in range(2) for many in (2, 3, 8)]
 HUNDRED = [house.made_row(seed, 100, many) for seed in range(2) for many in (2, 3, 8)]
-
-
-def listed(thing):
-    """The same with a list for each tuple."""
-    return [listed(part) for part in thing] if isinstance(thing, tuple) else thing
-
-
-def each_part_listed(thing):
-    """The same with a list for one tuple in it, each in turn."""
-    if isinstance(thing, tuple):
-        yield list(thing)
-        for k, part in enumerate(thing):
-            for other in each_part_listed(part):
-                yield thing[:k] + (other,) + thing[k + 1:]
 
 
 class ExamplesTest(unittest.TestCase):
@@ -100,15 +86,7 @@ class CallsTest(unittest.TestCase):
         self.assertEqual(parting_hall(one="ab", other="ba"), parting_hall("ab", "ba"))
 
     def test_lists_for_tuples(self):
-        for call in self.CALLS:
-            values = call[1]
-            if "thing" in values:
-                continue
-            forms = [{name: listed(value) for name, value in values.items()}]
-            for name, value in values.items():
-                forms += [{**values, name: form} for form in each_part_listed(value)]
-            for form in forms:
-                check_form(self, call, form)
+        check_lists(self, self.CALLS)
 
     def test_tuples_come_back(self):
         for sheet in points.every_sheet(5):

@@ -61,6 +61,37 @@ INTERFACE = {
         "number_of_set": ["many", "longest", "ways"], "how_many_with": ["many", "sizes"],
         "set_with": ["many", "sizes"],
     },
+    "between": {
+        "mirror_between": ["one", "other"], "is_between": ["one", "other", "thing"],
+        "doors_from": ["one", "other"], "can_become": ["one", "other"], "middle": ["one", "other"],
+        "pace": ["one", "other"], "looks_within": ["ways", "one", "other"],
+        "is_looks_within": ["ways", "one", "other", "thing"],
+        "led_within": ["ways", "one", "other"],
+    },
+    "flat": {
+        "sums_of": ["way", "many"], "alike_flat": ["one", "other"],
+        "alike_round": ["one", "other", "points"], "is_places": ["thing"],
+        "number_shown": ["way", "places"], "flat_after": ["places", "word", "number"],
+        "parting_places": ["one", "other"], "is_parting_places": ["one", "other", "thing"],
+        "way_with": ["sums"], "is_way_with": ["sums", "thing"], "fewest_letters": ["sums"],
+        "how_many_fewest": ["sums"],
+    },
+    "small": {
+        "is_small": ["thing"], "in_order": ["small"], "begun_at": ["small", "room"],
+        "room_in": ["small", "word"], "is_mirror": ["small", "way"],
+        "how_many_mirrors": ["small", "length"], "least_mirror": ["small"],
+        "small_of": ["ways", "many"], "is_family": ["small"], "makers_of": ["small"],
+        "laid_onto": ["one", "other"], "both_small": ["one", "other"],
+        "alike_elsewhere": ["one", "other"], "unlike_starts": ["small"],
+    },
+    "great": {
+        "is_great": ["thing"], "great_of": ["row"], "spelled": ["great"], "canonical": ["great"],
+        "great_length": ["great"], "great_letter": ["great", "place"], "great_back": ["great"],
+        "great_joined": ["one", "other"], "great_palindrome": ["great"],
+        "great_common": ["one", "other"], "great_begins": ["one", "other"],
+        "great_distance": ["one", "other"], "great_seen_in": ["one", "other"],
+        "great_sums": ["great", "many"],
+    },
 }
 
 

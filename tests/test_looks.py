@@ -90,22 +90,23 @@ class ExamplesTest(unittest.TestCase):
 
 
 class CallsTest(unittest.TestCase):
+    CALLS = [
+        (seen_in, {"one": "a", "other": "b"}, "ba"),
+        (seen_along, {"way": "a", "ways": ("b", "c")}, "cba"),
+        (is_recipe, {"thing": ("a", "b")}, True),
+        (way_shown, {"recipe": ("a", "b")}, "ba"),
+        (is_recipe_of, {"way": "ba", "thing": ("a", "b")}, True),
+        (alike, {"one": ("a", "a"), "other": "a"}, True),
+        (letters_to, {"one": "ab", "other": "b"}, "a"),
+        (room_after, {"room": "c", "ways": ("ab",)}, "abac"),
+        (same_motion, {"one": ("a", "b"), "other": ("b", "ba")}, True),
+        (fewest_turns, {"row": "abab"}, 2),
+        (turns_for, {"row": "aba"}, ("ab",)),
+        (is_turns_for, {"row": "abab", "thing": ("b", "ab")}, True),
+    ]
+
     def test_by_names(self):
-        calls = [
-            (seen_in, {"one": "a", "other": "b"}, "ba"),
-            (seen_along, {"way": "a", "ways": ("b", "c")}, "cba"),
-            (is_recipe, {"thing": ("a", "b")}, True),
-            (way_shown, {"recipe": ("a", "b")}, "ba"),
-            (is_recipe_of, {"way": "ba", "thing": ("a", "b")}, True),
-            (alike, {"one": ("a", "a"), "other": "a"}, True),
-            (letters_to, {"one": "ab", "other": "b"}, "a"),
-            (room_after, {"room": "c", "ways": ("ab",)}, "abac"),
-            (same_motion, {"one": ("a", "b"), "other": ("b", "ba")}, True),
-            (fewest_turns, {"row": "abab"}, 2),
-            (turns_for, {"row": "aba"}, ("ab",)),
-            (is_turns_for, {"row": "abab", "thing": ("b", "ab")}, True),
-        ]
-        check_calls(self, calls)
+        check_calls(self, self.CALLS)
         self.assertEqual(recipe_of(way="abc"), recipe_of("abc"))
         self.assertEqual(recipe_of("a"), "a")
 

@@ -54,21 +54,22 @@ class ExamplesTest(unittest.TestCase):
 
 
 class CallsTest(unittest.TestCase):
+    CALLS = [
+        (is_word, {"thing": "abba"}, True), (is_row, {"thing": "aba"}, True),
+        (is_way, {"thing": "ab"}, True), (reduced, {"word": "abb"}, "a"),
+        (joined, {"one": "ab", "other": "bc"}, "ac"), (back, {"row": "abc"}, "cba"),
+        (path, {"one": "ab", "other": "a"}, "b"),
+        (distance, {"one": "ab", "other": "b"}, 3),
+        (doors_on, {"one": "ab", "other": "c"}, ("ab", "a", "c")),
+        (meeting, {"one": "ab", "other": "ac", "third": "c"}, "a"),
+        (next_rooms, {"room": "b", "many": 3}, ("ba", "", "bc")),
+        (begins, {"one": "a", "other": "ab"}, True), (rooms_of, {"way": "ab"}, ("a", "ab")),
+        (palindrome, {"way": "ab"}, "aba"), (is_palindrome, {"thing": "aba"}, True),
+        (way_of, {"row": "aba"}, "ab"), (turned, {"way": "ab", "room": "c"}, "abac"),
+    ]
+
     def test_by_names(self):
-        calls = [
-            (is_word, {"thing": "abba"}, True), (is_row, {"thing": "aba"}, True),
-            (is_way, {"thing": "ab"}, True), (reduced, {"word": "abb"}, "a"),
-            (joined, {"one": "ab", "other": "bc"}, "ac"), (back, {"row": "abc"}, "cba"),
-            (path, {"one": "ab", "other": "a"}, "b"),
-            (distance, {"one": "ab", "other": "b"}, 3),
-            (doors_on, {"one": "ab", "other": "c"}, ("ab", "a", "c")),
-            (meeting, {"one": "ab", "other": "ac", "third": "c"}, "a"),
-            (next_rooms, {"room": "b", "many": 3}, ("ba", "", "bc")),
-            (begins, {"one": "a", "other": "ab"}, True), (rooms_of, {"way": "ab"}, ("a", "ab")),
-            (palindrome, {"way": "ab"}, "aba"), (is_palindrome, {"thing": "aba"}, True),
-            (way_of, {"row": "aba"}, "ab"), (turned, {"way": "ab", "room": "c"}, "abac"),
-        ]
-        check_calls(self, calls)
+        check_calls(self, self.CALLS)
 
     def test_kinds(self):
         for one in SOME:
