@@ -6,6 +6,7 @@ comes of it in the next line, or nothing if it only does something.
 
 import importlib
 import pathlib
+import re
 import unittest
 
 from tests.test_interface import INTERFACE
@@ -17,7 +18,7 @@ def examples():
     """For each point the list of the pairs (what is asked, what comes of it)."""
     found = {}
     for line in (HERE / "examples.txt").read_text().splitlines():
-        if line.startswith("["):
+        if re.fullmatch(r"\[[0-9]+\]", line):
             here = found[line] = []
         elif line.startswith(">>> "):
             here.append((line[4:], ""))
@@ -60,8 +61,8 @@ class ExamplesTest(unittest.TestCase):
                     self.check(asked, comes, names)
 
     def test_no_point_is_left_out(self):
-        self.assertEqual(list(examples()), ["[10]", "[11]", "[12]", "[13]"])
-        self.assertEqual([len(found) for found in examples().values()], [8, 8, 13, 9])
+        self.assertEqual(list(examples()), [f"[{point}]" for point in range(10, 18)])
+        self.assertEqual([len(found) for found in examples().values()], [8, 8, 13, 9, 7, 8, 5, 3])
 
 
 if __name__ == "__main__":

@@ -3,7 +3,9 @@
 import time
 import unittest
 
-from mirrordoors import between, counts, flat, great, halls, makers, rooms, small
+from mirrordoors import (
+    between, counts, desk, flat, great, halls, hidden, makers, rooms, small, texts)
+from mirrordoors.gallery import Gallery
 from tests import house, points
 from tests.test_counts import LONGEST, great_whole
 from tests.test_flat import EVERY
@@ -145,10 +147,57 @@ def calls_of_greats():
     yield great.spelled, (great.great_of(LONG[2]),)
 
 
+def calls_of_askers():
+    for one in TWELVE:
+        for other in TWELVE:
+            yield hidden.can_be, (one, other)
+            yield hidden.parting_door, (one, other)
+        yield hidden.what_is_sure, (one, (), LONG[0])
+        yield hidden.what_is_sure, (one, ("h", "g" + LONG[0][:150]), LONG[0])
+    for many in (2, 3, 8):
+        made = set(great_whole(many, 200, 1))
+        yield hidden.found_whole, (many, 200, lambda way: way in made)
+        yield hidden.found_makers, (many, LONGEST[many], lambda way: False)
+        way = house.made_row(1, 200, many)
+        yield hidden.found_way, (many, 200, way.startswith)
+    yield hidden.found_mirror, (lambda way: house.seen_by_walking(way, LONG[0]),)
+
+
+def calls_of_texts():
+    for ways in TWELVE:
+        yield texts.ways_text, (ways,)
+        yield texts.ways_read, (texts.ways_text(ways),)
+    yield texts.ways_read, (", ".join(sorted(house.ways(4, 7))),)
+    yield texts.recipe_text, (DEEP,)
+    yield texts.recipe_read, (texts.recipe_text(DEEP),)
+    yield texts.recipe_read, ("(" * 20 + "h" + " in a)" * 20,)
+    yield texts.hall_text, (GREAT,)
+    yield texts.hall_read, (texts.hall_text(GREAT),)
+    for one in HOUSES:
+        yield texts.small_text, (one,)
+        yield texts.small_read, (texts.small_text(one),)
+    yield texts.small_read, (texts.small_text(line(2400)),)
+
+
+def calls_of_galleries():
+    hung = [f"hang {way}" for way in TWELVE[0]]
+    for line_behind in ("makers", f"chain {LONG[0]}", "rooms 8", f"within {texts.ways_text(TWELVE[2])}",
+                        f"look {LONG[1]}", "tidy", "undo", f"has {LONG[2]}"):
+        yield desk.answers, ("\n".join(hung + [line_behind] * 48),)
+    for ways in TWELVE:
+        yield Gallery, (ways,)
+        gallery = Gallery(ways)
+        yield Gallery.twin, (gallery,)
+        for way in LONG[:3]:
+            yield Gallery.chain, (gallery, way)
+            yield Gallery.__contains__, (gallery, way)
+
+
 class GreatTest(unittest.TestCase):
     def test_each_within_a_few_seconds(self):
         for calls in (greatest_calls(), calls_of_ways(), calls_of_numbers(), calls_of_doors(),
-                      calls_of_houses(), calls_of_greats()):
+                      calls_of_houses(), calls_of_greats(), calls_of_askers(), calls_of_texts(),
+                      calls_of_galleries()):
             for function, values in calls:
                 start = time.perf_counter()
                 told = function(*values)

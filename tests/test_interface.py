@@ -92,7 +92,25 @@ INTERFACE = {
         "great_distance": ["one", "other"], "great_seen_in": ["one", "other"],
         "great_sums": ["great", "many"],
     },
+    "hidden": {
+        "can_be": ["yes", "no"], "what_is_sure": ["yes", "no", "way"],
+        "parting_door": ["one", "other"], "asks_for": ["many", "rooms"],
+        "found_whole": ["many", "rooms", "asker"], "found_makers": ["many", "longest", "asker"],
+        "found_way": ["many", "length", "asker"], "found_mirror": ["asker"],
+    },
+    "gallery": {"Gallery": ["ways"]},
+    "texts": {
+        "ways_text": ["ways"], "recipe_text": ["recipe"], "hall_text": ["hall"],
+        "small_text": ["small"], "ways_read": ["text"], "recipe_read": ["text"],
+        "hall_read": ["text"], "small_read": ["text"],
+    },
+    "desk": {"answers": ["text"]},
 }
+
+CLASSES = {"Gallery": (["ways", "makers", "deeds"], {
+    "hang": ["way"], "take": ["way"], "look": ["way"], "tidy": [], "undo": [], "twin": [],
+    "chain": ["way"],
+})}
 
 
 class InterfaceTest(unittest.TestCase):
@@ -102,7 +120,8 @@ class InterfaceTest(unittest.TestCase):
             classes = [node.name for node in tree.body if isinstance(node, ast.ClassDef)]
             functions = [node.name for node in tree.body if isinstance(node, ast.FunctionDef)]
             for word in listed:
-                self.assertIn(word, classes if name == "errors" else functions, name)
+                named = name == "errors" or word in CLASSES
+                self.assertIn(word, classes if named else functions, name)
 
     def test_parameters(self):
         for name, listed in INTERFACE.items():
@@ -114,7 +133,23 @@ class InterfaceTest(unittest.TestCase):
                 self.assertEqual([one.name for one in shown], parameters, word)
                 for one in shown:
                     self.assertEqual(one.kind, one.POSITIONAL_OR_KEYWORD)
-                    self.assertIs(one.default, one.empty)
+                    if word in CLASSES:
+                        self.assertEqual(one.default, ())
+                    else:
+                        self.assertIs(one.default, one.empty)
+
+    def test_methods(self):
+        for name, listed in INTERFACE.items():
+            for word in set(listed) & set(CLASSES):
+                own = vars(getattr(importlib.import_module("mirrordoors." + name), word))
+                properties, methods = CLASSES[word]
+                for each in properties:
+                    self.assertIsInstance(own[each], property)
+                    self.assertIsNone(own[each].fset)
+                for each, parameters in methods.items():
+                    self.assertTrue(inspect.isfunction(own[each]), each)
+                    shown = list(inspect.signature(own[each]).parameters)
+                    self.assertEqual(shown, ["self"] + parameters)
 
 
 if __name__ == "__main__":

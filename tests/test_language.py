@@ -162,12 +162,12 @@ class LanguageTest(unittest.TestCase):
                     self.assertNotIn(node.arg, classes, name)
 
     def test_calls(self):
+        own = {node.name for _, node in nodes(ast.FunctionDef)}
         for name, tree in trees():
             known = set(bound_names(tree)) | set(BUILTINS)
             for node in ast.walk(tree):
                 if isinstance(node, ast.ImportFrom):
                     known |= {word.name for word in node.names}
-            own = {node.name for node in ast.walk(tree) if isinstance(node, ast.FunctionDef)}
             for node in ast.walk(tree):
                 if isinstance(node, ast.Call) and isinstance(node.func, ast.Name):
                     self.assertIn(node.func.id, known, (name, node.lineno))

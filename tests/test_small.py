@@ -10,6 +10,7 @@ from mirrordoors.small import (
     laid_onto, least_mirror, makers_of, room_in, small_of, unlike_starts)
 from tests import family, house, points
 from tests.calls import check_calls, check_lists, check_sets, each_part_listed, listed
+from tests.test_counts import all_rooms_left, barred
 
 SMALL, THIRD, RING = ((0, 1, 0), (1, 0, 1)), ((2, 0), (1, 2), (0, 1)), ((1, 1), (0, 0))
 TWO, FOUR = ((1, 0), (0, 1)), ((1, 0), (0, 2), (3, 1), (2, 3))
@@ -35,6 +36,18 @@ def all_houses(rooms, letters):
     sheets = [house.exchanged(rooms, sheet) for sheet in points.every_sheet(rooms)]
     houses = [tuple(zip(*put)) for put in itertools.product(sheets, repeat=letters)]
     return [small for small in houses if len(reached(small)) == rooms]
+
+
+def is_one_of_houses(thing):
+    """Whether rooms with numbers from 0 on are a SMALL house, looked at door by door."""
+    letters = {len(room) for room in thing}
+    if len(letters) != 1 or not 2 <= min(letters) <= 8 or max(map(max, thing)) >= len(thing):
+        return False
+    for number, room in enumerate(thing):
+        for letter, there in enumerate(room):
+            if there != number and thing[there][letter] != number:
+                return False
+    return len(reached(thing)) == len(thing)
 
 
 def least_rows(small, start=0):
@@ -333,20 +346,13 @@ class FamilyTest(unittest.TestCase):
 
     def families(self, rooms, letters):
         """The houses of all whole families that leave so many rooms."""
-        trees = {("",)}
-        for _ in range(rooms - 1):
-            trees = {tuple(sorted(tree + (room + letter,))) for tree in trees for room in tree
-                     for letter in house.LETTERS[:letters]
-                     if not room.endswith(letter) and room + letter not in tree}
         found = {}
-        for tree in trees:
+        for tree in all_rooms_left(letters, rooms):
             order = sorted(tree, key=lambda room: (len(room), room))
             doors = [[house.step(room, letter) for letter in house.LETTERS[:letters]] for room in order]
             small = tuple(tuple(order.index(there if there in tree else room) for there in beyond)
                           for room, beyond in zip(order, doors))
-            made = sorted(room + letter for room in order for letter in house.LETTERS[:letters]
-                          if house.step(room, letter) not in tree)
-            found[small] = tuple(made)
+            found[small] = barred(tree, letters)
         return found
 
     def test_all_near_families(self):
