@@ -180,12 +180,33 @@ def how_many_with(many, sizes):
 def set_with(many, sizes):
     """The makers of one family with just so many of each length; None if there is none."""
     made = []
-    used = 0
-    for place, size in enumerate(sizes):
-        length = place + 1
-        if used + size > how_many_ways(many, length):
-            return None
-        # The first WAYs that no maker begins; so all ahead of them are makers or begun by makers.
-        made.extend([way_at(many, length, used + step) for step in range(size)])
-        used = (used + size) * (many - 1)
-    return tuple(sorted(made))
+    # The first WAY of as many letters that no maker begins; all ahead of it are makers, or begun
+    # by makers. So each maker stands behind the one before it, also if it is longer.
+    free = ""
+    for size in sizes:
+        free = first_longer(free)
+        for _ in range(size):
+            if free is None:
+                return None
+            made.append(free)
+            free = way_behind(many, free)
+    return tuple(made)
+
+
+def first_longer(row):
+    """The first WAY of one letter more that this ROW begins; None if there is no such ROW."""
+    if row is None:
+        return None
+    return row + ("b" if row.endswith("a") else "a")
+
+
+def way_behind(many, way):
+    """The WAY of as many letters that is next to this one, ascending; None if it is the last."""
+    for place in range(len(way) - 1, -1, -1):
+        ahead = way[:place]
+        higher = LETTERS[LETTERS.index(way[place]) + 1:many]
+        choices = [letter for letter in higher if not ahead.endswith(letter)]
+        if choices:
+            # Behind a letter that was raised, which is no a, the least letters are a b a b ..
+            return ahead + choices[0] + ("ab" * len(way))[:len(way) - place - 1]
+    return None
