@@ -140,6 +140,18 @@ class LanguageTest(unittest.TestCase):
             if isinstance(node.value, str):
                 self.assertNotIn("%", node.value, (name, node.lineno))
 
+    def test_lists_where_a_class_has_its_own_equality(self):
+        self.assertEqual(nodes((ast.GeneratorExp, ast.Yield, ast.YieldFrom)), [])
+
+    def test_only_own_errors_are_caught(self):
+        own = {node.name for name, node in nodes(ast.ClassDef) if name == "errors.py"}
+        for name, node in nodes(ast.ExceptHandler):
+            self.assertIn(node.type.id, own, (name, node.lineno))
+
+    def test_sums_are_kept_by_plain_names(self):
+        for name, node in nodes(ast.AugAssign):
+            self.assertIsInstance(node.target, ast.Name, (name, node.lineno))
+
     def test_module_level(self):
         for name, tree in trees():
             for node in tree.body:
